@@ -8,33 +8,12 @@ import (
 	"testing"
 
 	"multihop/api"
+	"multihop/internal/spare"
 	"multihop/octets"
 )
 
 // oddInts are numbers at which a sum with another one may overflow.
 var oddInts = []int{math.MinInt, math.MinInt + 1, -65, -9, -1, 65, math.MaxInt - 63, math.MaxInt - 1, math.MaxInt}
-
-// withSpace returns b in memory that goes on behind its end with bytes 0x55.
-func withSpace(b ...byte) []byte {
-	room := bytes.Repeat([]byte{0x55}, len(b)+16)
-	copy(room, b)
-	return room[:len(b)]
-}
-
-// checkKept fails if b, or the memory behind it, is not as withSpace(want...) made it.
-func checkKept(t *testing.T, b []byte, want ...byte) {
-	t.Helper()
-	if all := b[:cap(b)]; !bytes.Equal(all, append(slices.Clone(want), bytes.Repeat([]byte{0x55}, 16)...)) {
-		t.Errorf("the argument, or the memory behind it, was changed: % x", all)
-	}
-}
-
-// flip inverts every byte of b, also those behind its end.
-func flip(b []byte) {
-	for i := range b[:cap(b)] {
-		b[:cap(b)][i] ^= 0xff
-	}
-}
 
 // 1.1
 func TestAppendWritesTheMostSignificantByteFirst(t *testing.T) {
@@ -72,13 +51,13 @@ func TestAppendOfAnotherNumberOfBytes(t *testing.T) {
 // 1.1 with R3
 func TestAppendHasMemoryOfItsOwn(t *testing.T) {
 	for _, n := range []int{-1, 0, 1, 8, 9} {
-		b := withSpace(1, 2, 3)
+		b := spare.With(1, 2, 3)
 		first := octets.Append(b, 7, n)
 		second := octets.Append(b, 9, n)
 		want := slices.Clone(second)
-		checkKept(t, b, 1, 2, 3)
-		flip(first)
-		checkKept(t, b, 1, 2, 3)
+		spare.Check(t, b, 1, 2, 3)
+		spare.Flip(first)
+		spare.Check(t, b, 1, 2, 3)
 		if !bytes.Equal(second, want) {
 			t.Errorf("%d bytes: two results share memory", n)
 		}
@@ -114,7 +93,7 @@ func TestUintOfOtherBytes(t *testing.T) {
 		}
 	}
 	// There is memory behind the bytes, which are not those of b.
-	b := withSpace(1, 2, 3, 4, 5, 6, 7, 8, 9, 10)
+	b := spare.With(1, 2, 3, 4, 5, 6, 7, 8, 9, 10)
 	for _, n := range append([]int{0, 9, 10}, oddInts...) {
 		for _, at := range append([]int{0, 1, 9, 10}, oddInts...) {
 			refuse(b, at, n)
@@ -130,14 +109,14 @@ func TestUintOfOtherBytes(t *testing.T) {
 		refuse(nil, 0, n)
 		refuse([]byte{}, 0, n)
 	}
-	checkKept(t, b, 1, 2, 3, 4, 5, 6, 7, 8, 9, 10)
+	spare.Check(t, b, 1, 2, 3, 4, 5, 6, 7, 8, 9, 10)
 }
 
 // validBits are bit strings that are valid, otherBits some that are not.
 func validBits() []api.BitString {
 	return []api.BitString{
 		{}, {Bytes: []byte{}}, {Bytes: []byte{0}, Len: 1}, {Bytes: []byte{0x80}, Len: 1}, {Bytes: []byte{0xfe}, Len: 7}, {Bytes: []byte{0xff}, Len: 8},
-		{Bytes: []byte{0xff, 0x80}, Len: 9}, {Bytes: []byte{0, 0xfe}, Len: 15}, {Bytes: []byte{1, 0xff}, Len: 16}, {Bytes: withSpace(0xa5, 0xc0), Len: 11},
+		{Bytes: []byte{0xff, 0x80}, Len: 9}, {Bytes: []byte{0, 0xfe}, Len: 15}, {Bytes: []byte{1, 0xff}, Len: 16}, {Bytes: spare.With(0xa5, 0xc0), Len: 11},
 	}
 }
 
@@ -238,13 +217,13 @@ func TestAppendBitsOfOthers(t *testing.T) {
 // 1.4 with R3
 func TestAppendBitsHasMemoryOfItsOwn(t *testing.T) {
 	for _, n := range []int{0, 1, 5, 6, 64} {
-		s := api.BitString{Bytes: withSpace(0xff, 0xc0), Len: 10}
+		s := api.BitString{Bytes: spare.With(0xff, 0xc0), Len: 10}
 		first, _ := octets.AppendBits(s, math.MaxUint64, n)
 		second, _ := octets.AppendBits(s, 0, n)
 		want := slices.Clone(second.Bytes)
-		checkKept(t, s.Bytes, 0xff, 0xc0)
-		flip(first.Bytes)
-		checkKept(t, s.Bytes, 0xff, 0xc0)
+		spare.Check(t, s.Bytes, 0xff, 0xc0)
+		spare.Flip(first.Bytes)
+		spare.Check(t, s.Bytes, 0xff, 0xc0)
 		if !bytes.Equal(second.Bytes, want) {
 			t.Errorf("%d bits: two results share memory", n)
 		}
@@ -253,7 +232,7 @@ func TestAppendBitsHasMemoryOfItsOwn(t *testing.T) {
 
 // 1.5
 func TestBits(t *testing.T) {
-	s := api.BitString{Bytes: withSpace(0x9e, 0x37, 0x79, 0xb9, 0x7f, 0x4a, 0x7c, 0x15, 0xf3, 0x9c, 0x80), Len: 81}
+	s := api.BitString{Bytes: spare.With(0x9e, 0x37, 0x79, 0xb9, 0x7f, 0x4a, 0x7c, 0x15, 0xf3, 0x9c, 0x80), Len: 81}
 	all := digits(s)
 	for at := range s.Len {
 		for n := 1; n <= 64 && at+n <= s.Len; n++ {
@@ -315,9 +294,9 @@ func TestHex(t *testing.T) {
 			t.Errorf("Unhex(%q): % x %t", x.want, got, ok)
 		}
 	}
-	b := withSpace(1, 2)
+	b := spare.With(1, 2)
 	octets.Hex(b)
-	checkKept(t, b, 1, 2)
+	spare.Check(t, b, 1, 2)
 }
 
 // 1.6: all pairs of bytes, of which only those of two lower-case digits are the Hex of a byte.
